@@ -1,0 +1,1 @@
+"""Commonweb: the greatest common piece of two webs."""

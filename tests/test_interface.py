@@ -1,0 +1,52 @@
+"""The names and arguments of the interface, each defined in its own file."""
+
+import importlib
+import inspect
+import unittest
+
+FUNCTIONS = {
+    "commonweb.webs": {
+        "is_web": ["thing"],
+        "tie_of": ["web", "one", "other"],
+        "neighbours": ["web", "place"],
+        "parts": ["web"],
+        "hangs": ["web"],
+        "cut": ["web", "places"],
+    },
+    "commonweb.leads": {
+        "is_lead": ["one", "other", "thing"],
+        "lies": ["one", "other", "lead"],
+        "led_ties": ["one", "other", "lead"],
+        "is_piece": ["one", "other", "lead", "how", "together"],
+        "size_of": ["one", "other", "lead", "how"],
+    },
+}
+CLASSES = {
+    "commonweb.errors": [
+        "WebError", "NoTable", "NoTree", "NoShape", "NoWebs", "NoDeed", "NoText", "NoRow",
+    ],
+}
+
+
+class Interface(unittest.TestCase):
+    def test_functions_have_their_arguments_and_files(self):
+        for module_name, functions in FUNCTIONS.items():
+            module = importlib.import_module(module_name)
+            for name, arguments in functions.items():
+                with self.subTest(module=module_name, name=name):
+                    function = getattr(module, name)
+                    self.assertTrue(inspect.isfunction(function))
+                    self.assertEqual(function.__module__, module_name)
+                    self.assertEqual(list(inspect.signature(function).parameters), arguments)
+
+    def test_classes_have_their_files(self):
+        for module_name, names in CLASSES.items():
+            module = importlib.import_module(module_name)
+            for name in names:
+                with self.subTest(module=module_name, name=name):
+                    self.assertTrue(inspect.isclass(getattr(module, name)))
+                    self.assertEqual(getattr(module, name).__module__, module_name)
+
+
+if __name__ == "__main__":
+    unittest.main()
