@@ -47,7 +47,19 @@ def is_web(thing):
 
 def tie_of(web, one, other):
     """The kind of the tie of two places, either way about, or None."""
-    return kinds_by_ends(web).get((one, other))
+    ties = web[1]
+    ends = (min(one, other), max(one, other))
+    # Halved again and again: of two webs of many places this is asked for each two pairs.
+    low, high = 0, len(ties)
+    while low < high:
+        middle = (low + high) // 2
+        if ties[middle][:2] < ends:
+            low = middle + 1
+        else:
+            high = middle
+    if low < len(ties) and ties[low][:2] == ends:
+        return ties[low][2]
+    return None
 
 
 def kinds_by_ends(web):

@@ -28,6 +28,46 @@ def row_web(many, turned=False):
     return ("a" * many, tuple((*pair, "t") for pair in ends))
 
 
+def ring_web(many):
+    """A ring of places in order of number."""
+    ends = sorted([*((place, place + 1) for place in range(many - 1)), (0, many - 1)])
+    return ("a" * many, tuple((*pair, "t") for pair in ends))
+
+
+def star_web(many):
+    """Place 0 tied with all others."""
+    return ("a" * many, tuple((0, place, "t") for place in range(1, many)))
+
+
+def renamed(web, names):
+    """The web with its places called otherwise: place p is called names[p]."""
+    kinds = [None] * len(web[0])
+    for place, name in enumerate(names):
+        kinds[name] = web[0][place]
+    ties = [(*sorted((names[place], names[other])), kind) for place, other, kind in web[1]]
+    return ("".join(kinds), tuple(sorted(ties)))
+
+
+def near_webs(chance, web):
+    """Webs near this one: a tie or a place more or less or of another kind, called otherwise."""
+    kinds, ties = web
+    many = len(kinds)
+    tied = [tie[:2] for tie in ties]
+    bare = [pair for pair in combinations(range(many), 2) if pair not in tied]
+    told = [(kinds[:-1], tuple(tie for tie in ties if tie[1] != many - 1))]
+    told.append(("c" + kinds[1:], ties))
+    if many < 7:
+        told.append((kinds + "a", ties))
+        told.append((kinds + "a", tuple(sorted((*ties, (0, many, "t"))))))
+    if ties:
+        at = chance.randrange(len(ties))
+        told.append((kinds, ties[:at] + ties[at + 1:]))
+        told.append((kinds, ties[:at] + ((*ties[at][:2], "w"),) + ties[at + 1:]))
+    if bare:
+        told.append((kinds, tuple(sorted((*ties, (*chance.choice(bare), "t"))))))
+    return told + [renamed(near, chance.sample(range(len(near[0])), len(near[0]))) for near in told]
+
+
 def chance_web(chance, many, kinds, tie_kinds, share):
     """A web of so many places, of which about share in ten pairs are tied."""
     ties = []
@@ -42,6 +82,19 @@ def chance_webs():
     chance = random.Random(20)
     shapes = product((1, 2, 5, 8, 15, MANY), ("a", "ab", LETTERS), ("t", "tuv"), (0, 1, 2, 5, 10))
     return [chance_web(chance, *shape) for shape in shapes]
+
+
+def seven_webs():
+    """Webs of seven places of one kind: without ties, rows, rings, with all ties, and some by chance."""
+    chance = random.Random(7)
+    told = [
+        ("a" * 7, ()), row_web(7), row_web(7, turned=True), ring_web(7), star_web(7),
+        full_web("a" * 7, "t"), full_web("a" * 7, "tu"), renamed(ring_web(7), [3, 0, 5, 1, 6, 2, 4]),
+    ]
+    for share in (1, 3, 5, 7, 9):
+        told.append(chance_web(chance, 7, "a", "t", share))
+        told.append(chance_web(chance, 7, "a", "tu", share))
+    return told
 
 
 def small_webs(most, kinds="ab", tie_kinds="xy"):

@@ -2,45 +2,18 @@
 
 import random
 import unittest
-from itertools import combinations
 
 from commonweb.leads import is_lead, is_piece, led_ties, lies, size_of
+from tests.plain import plain_led, plain_lies, plain_piece
 from tests.samples import (
     ALONE, LETTERS, MANY, NOWHERE, all_webs, chance_web, deep, full_web, odd_things, plain_leads,
-    plain_parts, plain_tie, row_web, small_webs,
+    row_web, small_webs,
 )
 
 # A row of four places, and a ring of them whose ties are of two kinds.
 ROW = ("abab", ((0, 1, "x"), (1, 2, "x"), (2, 3, "y")))
 RING = ("abab", ((0, 1, "x"), (0, 3, "y"), (1, 2, "x"), (2, 3, "x")))
 SAME = [(0, 0), (1, 1), (2, 2), (3, 3)]
-
-
-def plain_lies(one, other, lead):
-    return all(
-        plain_tie(one, place, beside) == plain_tie(other, end, far)
-        for (place, end), (beside, far) in combinations(lead, 2)
-    )
-
-
-def plain_led(one, other, lead):
-    told = []
-    for (place, end), (beside, far) in combinations(sorted(lead), 2):
-        kind = plain_tie(one, place, beside)
-        if kind is not None and kind == plain_tie(other, end, far):
-            told.append((place, beside, kind))
-    return sorted(told)
-
-
-def plain_piece(one, other, lead, how, together):
-    places = [place for place, _ in lead]
-    if how == "lies":
-        holds = plain_lies(one, other, lead)
-        ends = [tie[:2] for tie in one[1] if tie[0] in places and tie[1] in places]
-    else:
-        ends = [tie[:2] for tie in plain_led(one, other, lead)]
-        holds = all(any(place in pair for pair in ends) for place in places)
-    return holds and (not together or len(plain_parts(places, ends)) < 2)
 
 
 def some_leads(chance, one, other, many):
