@@ -20,6 +20,36 @@ FUNCTIONS = {
         "is_piece": ["one", "other", "lead", "how", "together"],
         "size_of": ["one", "other", "lead", "how"],
     },
+    "commonweb.fits": {
+        "pairs": ["one", "other"],
+        "fit": ["one", "other", "pair", "beside"],
+    },
+    "commonweb.lying": {
+        "greatest_lying": ["one", "other"],
+        "count_lying": ["one", "other"],
+    },
+    "commonweb.byties": {
+        "greatest_by_ties": ["one", "other"],
+        "count_by_ties": ["one", "other"],
+    },
+    "commonweb.together": {
+        "together_lying": ["one", "other"],
+        "together_by_ties": ["one", "other"],
+    },
+    "commonweb.counts": {
+        "by_kinds": ["one", "other"],
+        "by_tie_kinds": ["one", "other"],
+        "by_degrees": ["one", "other"],
+        "ties_bound": ["one", "other"],
+    },
+    "commonweb.papers": {
+        "paper_of": ["one", "other"],
+        "says": ["one", "other", "thing"],
+    },
+    "commonweb.matchings": {
+        "best_matching": ["table"],
+        "is_best": ["table", "thing"],
+    },
 }
 CLASSES = {
     "commonweb.errors": [
