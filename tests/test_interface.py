@@ -50,6 +50,27 @@ FUNCTIONS = {
         "best_matching": ["table"],
         "is_best": ["table", "thing"],
     },
+    "commonweb.trees": {
+        "is_tree": ["web"],
+        "common_tree": ["one", "other"],
+        "middle": ["tree"],
+    },
+    "commonweb.lines": {
+        "shape_of": ["web"],
+        "along": ["web"],
+        "common_stretch": ["one", "other"],
+    },
+    "commonweb.sameness": {
+        "same_lead": ["one", "other"],
+        "plain": ["web"],
+        "onto_itself": ["web"],
+        "marks": ["web"],
+    },
+    "commonweb.shares": {
+        "distance": ["one", "other"],
+        "joined_size": ["one", "other"],
+        "nearest": ["web", "webs"],
+    },
 }
 CLASSES = {
     "commonweb.errors": [
