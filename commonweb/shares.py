@@ -4,7 +4,7 @@ from math import gcd
 
 from commonweb.errors import NoWebs
 from commonweb.lying import greatest_lying
-from commonweb.webs import is_web
+from commonweb.webs import are_webs
 
 MOST_WEBS = 8
 
@@ -27,7 +27,7 @@ def joined_size(one, other):
 
 def nearest(web, webs):
     """The number, from 0, of the first web of least distance."""
-    if not are_webs(webs):
+    if not are_webs(webs, MOST_WEBS):
         raise NoWebs("no list of one to eight webs")
     best = 0
     least = distance(web, webs[0])
@@ -36,10 +36,3 @@ def nearest(web, webs):
         if further[0] * least[1] < least[0] * further[1]:
             best, least = number, further
     return best
-
-
-def are_webs(thing):
-    """True where the thing, which may be anything, is a list of one to eight webs."""
-    if type(thing) is not list or not 1 <= len(thing) <= MOST_WEBS:
-        return False
-    return all(is_web(web) for web in thing)

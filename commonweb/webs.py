@@ -45,6 +45,13 @@ def is_web(thing):
     return rises([(tie[0], tie[1]) for tie in ties])
 
 
+def are_webs(thing, most):
+    """True where the thing, which may be anything, is a list of one to so many webs."""
+    if type(thing) is not list or not 1 <= len(thing) <= most:
+        return False
+    return all(is_web(web) for web in thing)
+
+
 def tie_of(web, one, other):
     """The kind of the tie of two places, either way about, or None."""
     ties = web[1]

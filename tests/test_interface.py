@@ -71,11 +71,23 @@ FUNCTIONS = {
         "joined_size": ["one", "other"],
         "nearest": ["web", "webs"],
     },
+    "commonweb.several": {
+        "common_of": ["webs"],
+    },
+    "commonweb.changes": {
+        "done": ["web", "deeds"],
+        "least_changes": ["one", "other"],
+    },
+    "commonweb.texts": {
+        "show_web": ["web"],
+        "read_web": ["text"],
+    },
 }
 CLASSES = {
     "commonweb.errors": [
         "WebError", "NoTable", "NoTree", "NoShape", "NoWebs", "NoDeed", "NoText", "NoRow",
     ],
+    "commonweb.desk": ["Desk"],
 }
 
 
@@ -97,6 +109,12 @@ class Interface(unittest.TestCase):
                 with self.subTest(module=module_name, name=name):
                     self.assertTrue(inspect.isclass(getattr(module, name)))
                     self.assertEqual(getattr(module, name).__module__, module_name)
+
+    def test_the_desk_has_its_method(self):
+        desk = importlib.import_module("commonweb.desk").Desk
+        self.assertEqual(list(inspect.signature(desk).parameters), [])
+        self.assertTrue(inspect.isfunction(vars(desk)["say"]))
+        self.assertEqual(list(inspect.signature(desk.say).parameters), ["self", "row"])
 
 
 if __name__ == "__main__":

@@ -103,7 +103,8 @@ class Shape(unittest.TestCase):
     def test_others(self):
         for web in near_misses():
             self.assert_shape(web, None)
-        self.assert_shape(("a" * 40, tuple(sorted((*ring_web(20)[1], *((a + 20, b + 20, k) for a, b, k in ring_web(20)[1]))))), None)
+        self.assert_shape(("a" * 40, tuple(sorted((*ring_web(20)[1],
+            *((a + 20, b + 20, k) for a, b, k in ring_web(20)[1]))))), None)
 
     def test_held_against_degrees_and_distances(self):
         met = {None: 0, "row": 0, "ring": 0}
@@ -142,7 +143,8 @@ class Along(unittest.TestCase):
         self.assertEqual(along(("aaaa", ((0, 2, "t"), (0, 3, "t"), (1, 2, "t")))), [1, 2, 0, 3])
         self.assertEqual(along(("aaaa", ((0, 1, "t"), (0, 3, "t"), (1, 2, "t")))), [2, 1, 0, 3])
         self.assertEqual(along(("aaaa", ((0, 2, "t"), (0, 3, "t"), (1, 2, "t"), (1, 3, "t")))), [0, 2, 1, 3])
-        self.assertEqual(along(("aaaaa", ((0, 2, "t"), (0, 4, "t"), (1, 3, "t"), (1, 4, "t"), (2, 3, "t")))), [0, 2, 3, 1, 4])
+        self.assertEqual(along(("aaaaa", ((0, 2, "t"), (0, 4, "t"), (1, 3, "t"), (1, 4, "t"), (2, 3, "t")))),
+            [0, 2, 3, 1, 4])
 
     def test_all_sizes(self):
         chance = random.Random(3)

@@ -8,7 +8,7 @@ from commonweb.lying import greatest_lying
 from commonweb.papers import paper_of, says
 from tests.plain import plain_cases, plain_best, plain_fit
 from tests.samples import (
-    ALONE, NOWHERE, chance_web, deep, full_web, near_webs, odd_things, ring_web, row_web, seven_webs,
+    ALONE, NOWHERE, chance_web, full_web, near_webs, odd_things, ring_web, row_web, seven_webs,
     small_webs,
 )
 

@@ -119,7 +119,8 @@ class CommonTree(unittest.TestCase):
         self.assert_common(star, turned, 3)
         self.assert_common(star, shuffled(random.Random(1), star), 20)
         self.assert_common(star, star_web(12), 12)
-        double = ("a" * 20, ((0, 1, "t"), *((0, at, "t") for at in range(2, 11)), *((1, at, "t") for at in range(11, 20))))
+        double = ("a" * 20, ((0, 1, "t"), *((0, at, "t") for at in range(2, 11)),
+            *((1, at, "t") for at in range(11, 20))))
         self.assert_common(double, star, 11)
         self.assert_common(row, double, 4)
 
@@ -201,7 +202,8 @@ class Middle(unittest.TestCase):
     def test_held_against_distances(self):
         chance = random.Random(37)
         trees = all_trees(5) + big_trees()
-        trees += [chance_tree(chance, chance.randrange(2, 41), "ab", "tu", chance.choice((1, 2, 5, 99))) for _ in range(60)]
+        trees += [chance_tree(chance, chance.randrange(2, 41), "ab", "tu",
+            chance.choice((1, 2, 5, 99))) for _ in range(60)]
         twos = 0
         for tree in trees:
             farthest = [max(row) for row in plain_distances(tree)]
