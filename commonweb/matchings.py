@@ -5,7 +5,7 @@ at most the two numbers of its row and column, no matching has more than all of 
 """
 
 from commonweb.errors import NoTable
-from commonweb.masks import numbers_of
+from commonweb.tightness import first_matching
 from commonweb.webs import rises
 
 MOST_ROWS = 8
@@ -16,10 +16,9 @@ def best_matching(table):
     """(sum, matching, rows, columns): the first greatest matching, and numbers that show it."""
     if not is_table(table):
         raise NoTable("no table of worths")
-    sums = sums_from_rows(table)
-    matching = first_matching(table, sums)
+    matching = first_matching(table)
     rows, columns = numbers_for(table, matching)
-    return (sums[0][-1], matching, rows, columns)
+    return (sum(rows) + sum(columns), matching, rows, columns)
 
 
 def is_table(thing):
@@ -36,43 +35,6 @@ def is_table(thing):
 def is_whole(thing, most):
     """True where the thing is a whole number from 0 to most."""
     return type(thing) is int and 0 <= thing <= most
-
-
-def sums_from_rows(table):
-    """For each row the list of the greatest sums from it on, by the set of the columns left.
-
-    Behind the last row stands one more list.
-    """
-    sums = [0] * (1 << len(table[0]))
-    told = [sums]
-    for row in reversed(table):
-        sums = [greatest_sum(row, left, sums) for left in range(len(sums))]
-        told.append(sums)
-    told.reverse()
-    return told
-
-
-def greatest_sum(row, left, sums):
-    """The greatest sum of a row's worth, or none, with the sum behind it of what is left then."""
-    told = sums[left]
-    for column in numbers_of(left):
-        told = max(told, row[column] + sums[left & ~(1 << column)])
-    return told
-
-
-def first_matching(table, sums):
-    """The first matching with the greatest sum that has no pair of worth 0."""
-    left = len(sums[0]) - 1
-    told = []
-    for row in range(len(table)):
-        for column in numbers_of(left):
-            worth = table[row][column]
-            behind = left & ~(1 << column)
-            if worth > 0 and worth + sums[row + 1][behind] == sums[row][left]:
-                told.append((row, column))
-                left = behind
-                break
-    return told
 
 
 def numbers_for(table, matching):

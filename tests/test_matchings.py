@@ -67,6 +67,28 @@ def chance_tables():
     return told
 
 
+def tables_of_eight():
+    """Some hundred tables of eight rows and columns, of worths that are unlike and of many alike."""
+    chance = random.Random(11)
+    told = []
+    for _ in range(100):
+        worths = chance.sample(range(101), 64)
+        told.append([worths[at:at + 8] for at in range(0, 64, 8)])
+        told.append(chance_table(chance, 8, 8, range(MOST + 1)))
+    for worths in ((0, 1), (0, 0, 0, 0, 1), (1, 2), (0, 1, 2, 3), (7, 7, 7, 8), (0, 5, 5, MOST), range(10)):
+        told += [chance_table(chance, 8, 8, worths) for _ in range(20)]
+    for _ in range(60):
+        # Worths that are two numbers together, but for a few: nearly all matchings are greatest.
+        rows, columns = [[chance.randrange(4) for _ in range(8)] for _ in range(2)]
+        less = [0] * chance.choice((5, 20, 60)) + [1]
+        told.append([[max(0, row + column - chance.choice(less)) for column in columns] for row in rows])
+        # Some places of worth 1, one in each row and column among them: matchings of all are hidden.
+        order = chance.sample(range(8), 8)
+        share = chance.randrange(5)
+        told.append([[int(column == end or chance.randrange(8) < share) for column in range(8)] for end in order])
+    return told
+
+
 class BestMatching(unittest.TestCase):
     """[30], [31]"""
 
@@ -147,6 +169,16 @@ class BestMatching(unittest.TestCase):
     def test_all_sizes(self):
         for table in chance_tables():
             self.assert_best(table, *best_by_rows(table))
+
+    def test_tables_of_eight_rows_and_columns(self):
+        tables = tables_of_eight()
+        self.assertGreater(len(tables), 400)
+        firsts = 0
+        for table in tables:
+            total, matching = best_by_rows(table)
+            self.assert_best(table, total, matching)
+            firsts += matching != [(at, at) for at in range(8)]
+        self.assertGreater(firsts, 300)
 
     def test_the_other_way_about(self):
         for table in chance_tables()[::5]:
