@@ -2,7 +2,7 @@
 
 import functools
 import random
-from itertools import combinations, product
+from itertools import product
 
 from tests.samples import chance_web, plain_tie, renamed, ring_web, row_web, star_web
 
@@ -148,7 +148,3 @@ def plain_shape(web):
     if len(web[1]) == many - 1:
         return "row"
     return "ring" if many > 2 and degrees == [2] * many else None
-
-
-def pairs_of_places(many):
-    return list(combinations(range(many), 2))

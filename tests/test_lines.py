@@ -12,7 +12,11 @@ from tests.samples import (
 )
 from tests.shapes import chance_ring, chance_row, chance_tree, from_letters, no_trees, plain_shape, shuffled
 
-TWO_RINGS = ("aaaaaa", ((0, 1, "t"), (0, 2, "t"), (1, 2, "t"), (3, 4, "t"), (3, 5, "t"), (4, 5, "t")))
+
+def two_rings(many):
+    """Two rings of so many places each."""
+    ties = ring_web(many)[1]
+    return ("a" * many * 2, ties + tuple((place + many, other + many, kind) for place, other, kind in ties))
 
 
 def near_misses():
@@ -22,7 +26,8 @@ def near_misses():
         NOWHERE,
         MIXED,
         ("aa", ()),
-        TWO_RINGS,
+        two_rings(3),
+        two_rings(20),
         star_web(4),
         star_web(MANY),
         # A tie more, and a tie less, of a row and of a ring.
@@ -103,8 +108,6 @@ class Shape(unittest.TestCase):
     def test_others(self):
         for web in near_misses():
             self.assert_shape(web, None)
-        self.assert_shape(("a" * 40, tuple(sorted((*ring_web(20)[1],
-            *((a + 20, b + 20, k) for a, b, k in ring_web(20)[1]))))), None)
 
     def test_held_against_degrees_and_distances(self):
         met = {None: 0, "row": 0, "ring": 0}
